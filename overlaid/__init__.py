@@ -1,0 +1,1 @@
+"""Overlaid: words that laid over themselves cover a text."""

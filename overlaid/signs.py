@@ -1,0 +1,30 @@
+"""What makes a sign, a word and a text: the refusals that the points share."""
+
+from overlaid.errors import NoSign
+from overlaid.errors import NoText
+from overlaid.errors import NoWord
+
+
+def is_sign(sign):
+    """Whether this is a text of one letter from a to z."""
+    return isinstance(sign, str) and len(sign) == 1 and "a" <= sign <= "z"
+
+
+def check_signs(text):
+    """Refuse a text with a sign that is no letter."""
+    for sign in text:
+        if not is_sign(sign):
+            raise NoSign("a sign is one letter from a to z")
+
+
+def check_word(word):
+    """Refuse a word without signs, then one with a sign that is no letter."""
+    if len(word) == 0:
+        raise NoWord("a word has one sign at least")
+    check_signs(word)
+
+
+def check_some(text):
+    """Refuse a text without signs."""
+    if len(text) == 0:
+        raise NoText("the text has no signs")
