@@ -1,4 +1,4 @@
-"""Borders and periods of a text, and the places at which a word lies in it."""
+"""Borders and periods of a text, and the places at which a word, or each of its pieces, lies in it."""
 
 from overlaid.signs import check_signs
 from overlaid.signs import check_word
@@ -22,3 +22,12 @@ def lies_at(text, word):
     check_signs(text)
     many = len(word)
     return [place for place in range(len(text) - many + 1) if text[place:place + many] == word]
+
+
+def piece_places(text, many):
+    """The unlike pieces of so many signs, as they come in the text, each with all its places, rising."""
+    places = {}
+    for place in range(len(text) - many + 1):
+        piece = tuple(text[place:place + many])
+        places.setdefault(piece, []).append(place)
+    return places

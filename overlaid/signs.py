@@ -1,5 +1,6 @@
-"""What makes a sign, a word and a text: the refusals that the points share."""
+"""What makes a sign, a word, a text and a number within bounds: the refusals that the points share."""
 
+from overlaid.errors import NoNumber
 from overlaid.errors import NoSign
 from overlaid.errors import NoText
 from overlaid.errors import NoWord
@@ -28,3 +29,9 @@ def check_some(text):
     """Refuse a text without signs."""
     if len(text) == 0:
         raise NoText("the text has no signs")
+
+
+def check_within(number, least, most):
+    """Refuse a number below the least or above the most."""
+    if not least <= number <= most:
+        raise NoNumber(f"the number goes from {least} on and up to {most}")

@@ -100,6 +100,96 @@ def plain_layings(text, word):
     return found
 
 
+def plain_covers_by_length(text):
+    """For each beginning, from one sign on, all its covers: each by itself, from its own signs."""
+    return [plain_all_covers(text[:length]) for length in range(1, len(text) + 1)]
+
+
+def plain_covered_beginnings(text, word):
+    return [many for many in range(1, len(text) + 1) if plain_covered(text[:many], word)[0] == "covers"]
+
+
+def stands_in(text, whole):
+    return any(lies(whole, text, place) for place in range(len(whole)))
+
+
+def tried_texts(word, signs, longest):
+    """All texts of these signs up to a length that the word covers, shorter ones ahead: every text is tried."""
+    return [text for text in all_texts(signs, longest, 1) if plain_covered(text, word)[0] == "covers"]
+
+
+def grown_texts(word, longest):
+    """The same, grown from the word by laying it once more, over or right behind the last time."""
+    found = []
+    rows = [list(word)] if len(word) <= longest else []
+    while rows:
+        found.extend(rows)
+        longer = set()
+        for text in rows:
+            for shift in range(1, len(word) + 1):
+                end = text[len(text) - len(word) + shift:]
+                if word[:len(end)] == end and len(text) + shift <= longest:
+                    longer.add(tuple(text + word[len(end):]))
+        rows = [list(text) for text in longer]
+    unlike = {tuple(text) for text in found}
+    return [list(text) for text in sorted(unlike, key=lambda text: (len(text), text))]
+
+
+def with_rests(text, word):
+    """All texts that the word covers which may be needed to show a rest at either end of the text."""
+    # A longer one can be cut where a word begins that meets the text's first sign, and ends that meets its last.
+    return grown_texts(word, max(len(word), len(text) + 2 * (len(word) - 1)))
+
+
+def plain_rests(text, word):
+    """Whether there is such a text that begins with this one, that ends with it, in which it stands."""
+    wholes = with_rests(text, word)
+    behind = any(whole[:len(text)] == text for whole in wholes)
+    ahead = any(whole[-len(text):] == text for whole in wholes)
+    return (behind, ahead, any(stands_in(text, whole) for whole in wholes))
+
+
+def plain_shown(text, word):
+    """The shortest covered text in which this one stands, the first of these, or None."""
+    found = [whole for whole in with_rests(text, word) if stands_in(text, whole)]
+    return found[0] if found else None
+
+
+def plain_pieces(text):
+    """Each unlike piece with its length and its first place."""
+    found = {}
+    for length in range(1, len(text) + 1):
+        for place in range(len(text) - length + 1):
+            found.setdefault(tuple(text[place:place + length]), (length, place))
+    return [(list(piece), at) for piece, at in found.items()]
+
+
+def plain_how_covered(text, word):
+    under = marks(text, word, plain_places(text, word))
+    runs = []
+    for at, held in enumerate(under):
+        if not held:
+            if runs and runs[-1][1] == at:
+                runs[-1] = (runs[-1][0], at + 1)
+            else:
+                runs.append((at, at + 1))
+    return (under.count(True), runs)
+
+
+def plain_most_covering(text, many):
+    numbers = []
+    for place in range(len(text) - many + 1):
+        numbers.append(plain_how_covered(text, text[place:place + many])[0])
+    return (max(numbers), numbers.index(max(numbers)))
+
+
+def plain_length_for(text, many):
+    """The least length so that it and every greater one will do: each length is tried with all above it."""
+    lengths = range(1, len(text) + 1)
+    will_do = {length: plain_most_covering(text, length)[0] >= many for length in lengths}
+    return min(least for least in lengths if all(will_do[length] for length in lengths if length >= least))
+
+
 def assert_refused(case, due, deed, *handed):
     """The deed refuses with just this class, and leaves what was handed in as it was."""
     before = copy.deepcopy(handed)

@@ -3,11 +3,18 @@
 import copy
 import unittest
 
+from overlaid.bare import how_covered, length_for, most_covering
+from overlaid.beginnings import (
+    cover_tree, covered_beginnings, greatest_covers, how_many_covers, most_covers, shortest_covers,
+)
 from overlaid.borders import borders, lies_at, periods
 from overlaid.covers import (
     all_covers, covered, fewest_layings, how_many_layings, is_bare, is_laying, shortest_cover,
 )
 from overlaid.errors import CoverError
+from overlaid.rests import (
+    beginnings_with_rest, ends_with_rest, pieces_with_rests, rest_ahead, rest_behind, rest_both, shown_with_rests,
+)
 from tests.plain import all_texts, letters
 
 
@@ -15,8 +22,18 @@ def covering_places(text, word):
     return covered(text, word)[1]
 
 
-LIST_OF_TEXT = (borders, periods, all_covers)
-LIST_OF_BOTH = (lies_at, covering_places, fewest_layings)
+def bare_runs_told(text, word):
+    return how_covered(text, word)[1]
+
+
+NUMBERS_OF_TEXT = (
+    borders, periods, all_covers, shortest_covers, greatest_covers, how_many_covers, beginnings_with_rest,
+    ends_with_rest,
+)
+LIST_OF_TEXT = (*NUMBERS_OF_TEXT, pieces_with_rests, cover_tree)
+LIST_OF_BOTH = (lies_at, covering_places, fewest_layings, covered_beginnings, shown_with_rests)
+OTHERS_OF_TEXT = (shortest_cover, is_bare, most_covers)
+OTHERS_OF_BOTH = (covered, how_many_layings, rest_behind, rest_ahead, rest_both, how_covered)
 
 
 class Kinds(unittest.TestCase):
@@ -27,16 +44,55 @@ class Kinds(unittest.TestCase):
 
     def test_kinds_of_what_is_told(self):
         for text in all_texts("ab", 4, 1):
-            for deed in LIST_OF_TEXT:
+            for deed in NUMBERS_OF_TEXT:
                 self.assert_numbers(deed(text))
             self.assertIs(type(shortest_cover(text)), int)
             self.assertIs(type(is_bare(text)), bool)
+            self.assert_pair(most_covers(text))
+            self.assert_pairs(pieces_with_rests(text))
+            self.hold_tree(text)
+            for many in range(1, len(text) + 1):
+                self.assert_pair(most_covering(text, many))
+                self.assertIs(type(length_for(text, many)), int)
             for word in all_texts("ab", 3, 1):
                 self.assert_numbers(lies_at(text, word))
+                self.assert_numbers(covered_beginnings(text, word))
                 self.hold_covered(text, word)
+                self.hold_rests(text, word)
+                self.hold_how_covered(text, word)
                 self.assertIs(type(how_many_layings(text, word)), int)
                 self.assertIs(type(is_laying(text, word, [0])), bool)
                 self.assertIs(type(is_laying(text, word, [])), bool)
+
+    def assert_pair(self, told):
+        self.assertIs(type(told), tuple)
+        self.assertEqual([type(number) for number in told], [int, int])
+
+    def assert_pairs(self, told):
+        self.assertIs(type(told), list)
+        for pair in told:
+            self.assert_pair(pair)
+
+    def hold_tree(self, text):
+        tree = cover_tree(text)
+        self.assertIs(type(tree), list)
+        for children in tree:
+            self.assert_numbers(children)
+
+    def hold_rests(self, text, word):
+        for deed in (rest_behind, rest_ahead, rest_both):
+            self.assertIs(type(deed(text, word)), bool)
+        if rest_both(text, word):
+            told = shown_with_rests(text, word)
+            self.assertIs(type(told), list)
+            self.assertEqual({type(sign) for sign in told}, {str})
+
+    def hold_how_covered(self, text, word):
+        told = how_covered(text, word)
+        self.assertIs(type(told), tuple)
+        self.assertEqual(len(told), 2)
+        self.assertIs(type(told[0]), int)
+        self.assert_pairs(told[1])
 
     def hold_covered(self, text, word):
         told = covered(text, word)
@@ -50,9 +106,12 @@ class Kinds(unittest.TestCase):
             self.assertIs(type(told[1]), int)
 
     def test_no_signs_is_told_as_a_list(self):
-        self.assert_numbers(borders([]))
-        self.assert_numbers(periods([]))
-        self.assert_numbers(lies_at([], ["a"]))
+        for deed in (borders, periods, shortest_covers, greatest_covers, how_many_covers):
+            self.assert_numbers(deed([]))
+        for deed in (lies_at, covered_beginnings):
+            self.assert_numbers(deed([], ["a"]))
+        self.hold_tree([])
+        self.hold_how_covered([], ["a"])
 
 
 class HandedIn(unittest.TestCase):
@@ -67,10 +126,13 @@ class HandedIn(unittest.TestCase):
     def test_nothing_is_changed(self):
         texts = [[], ["a"], letters("abab"), letters("aaaa"), ["A", "b"], ["a", ""], letters("ba")]
         for text in texts:
-            for deed in (*LIST_OF_TEXT, shortest_cover, is_bare):
+            for deed in (*LIST_OF_TEXT, *OTHERS_OF_TEXT):
                 self.hold(deed, text)
+            for many in (-1, 0, 1, 2, 9):
+                self.hold(most_covering, text, many)
+                self.hold(length_for, text, many)
             for word in texts:
-                for deed in (*LIST_OF_BOTH, covered, how_many_layings):
+                for deed in (*LIST_OF_BOTH, *OTHERS_OF_BOTH):
                     self.hold(deed, text, word)
                 for places in ([], [0], [0, 2], [2, 0], [0, 0], [-1, 9]):
                     self.hold(is_laying, text, word, places)
@@ -82,6 +144,11 @@ class HandedIn(unittest.TestCase):
         self.assertEqual(fewest_layings(text, text), [0])
         self.assertEqual(how_many_layings(text, text), 1)
         self.assertIs(is_laying(text, text, [0]), True)
+        self.assertEqual(covered_beginnings(text, text), [3])
+        for deed in (rest_behind, rest_ahead, rest_both):
+            self.assertIs(deed(text, text), True)
+        self.assertEqual(shown_with_rests(text, text), letters("aba"))
+        self.assertEqual(how_covered(text, text), (3, []))
         self.assertEqual(text, letters("aba"))
 
     def test_nothing_is_kept(self):
@@ -104,6 +171,26 @@ class HandedIn(unittest.TestCase):
         places.reverse()
         self.assertIs(is_laying(text, word, places), False)
 
+    def test_nothing_is_kept_of_beginnings_rests_and_bare_signs(self):
+        text, word = letters("aaaa"), letters("aa")
+        tree, pieces, runs = cover_tree(text), pieces_with_rests(text), how_covered(text, word)
+        shown, lengths = shown_with_rests(text, word), covered_beginnings(text, word)
+        self.assertEqual(shown_with_rests(word, text), letters("aaaa"))
+        text[3] = "b"
+        self.assertEqual(tree, [[1], [2], [3], [4], []])
+        self.assertEqual(pieces, [(1, 0), (2, 0), (3, 0), (4, 0)])
+        self.assertEqual(runs, (4, []))
+        self.assertEqual(shown, letters("aaaa"))
+        self.assertEqual(lengths, [2, 3, 4])
+        self.assertEqual(cover_tree(text), [[1, 4], [2], [3], [], []])
+        self.assertEqual(most_covers(text), (3, 3))
+        self.assertEqual(pieces_with_rests(text), [(4, 0)])
+        self.assertEqual(how_covered(text, word), (3, [(3, 4)]))
+        self.assertEqual(covered_beginnings(text, word), [2, 3])
+        self.assertEqual([deed(text, word) for deed in (rest_behind, rest_ahead, rest_both)], [False] * 3)
+        self.assertEqual(most_covering(text, 1), (3, 0))
+        self.assertEqual(length_for(text, 4), 4)
+
     def test_what_is_told_may_be_handed_in(self):
         for text in all_texts("ab", 7, 1):
             for many in all_covers(text):
@@ -111,6 +198,11 @@ class HandedIn(unittest.TestCase):
                 self.assertIs(is_laying(text, word, covered(text, word)[1]), True)
                 self.assertIs(is_laying(text, word, lies_at(text, word)), True)
                 self.assertIs(is_laying(text, word, fewest_layings(text, word)), True)
+                shown = shown_with_rests(text, word)
+                self.assertEqual(covered(shown, word)[0], "covers")
+                self.assertEqual(shown_with_rests(shown, shown), shown)
+                number = most_covering(text, many)[0]
+                self.assertGreaterEqual(most_covering(text, length_for(text, number))[0], number)
 
 
 class Told(unittest.TestCase):
@@ -135,15 +227,46 @@ class Told(unittest.TestCase):
             for many in all_covers(text):
                 for deed in LIST_OF_BOTH:
                     self.hold(deed, text, text[:many])
+        self.hold(bare_runs_told, letters("abcab"), ["a"])
+        # Where the text stands in the word, the word's own signs are told in a new list.
+        self.hold(shown_with_rests, letters("ab"), letters("cabc"))
+
+    def test_the_lists_within_a_told_list_are_the_askers_own(self):
+        text = letters("aaba")
+        due = [[1, 3, 4], [2], [], [], []]
+        first, again = cover_tree(text), cover_tree(text)
+        self.assertEqual(first, due)
+        self.assertEqual(len({id(children) for children in first}), 5)
+        first[0].append(77)
+        first[2].append(88)
+        self.assertEqual(again, due)
+        self.assertEqual(cover_tree(text), due)
+        cover_tree([])[0].append(5)
+        self.assertEqual(cover_tree([]), [[]])
+
+    def test_being_asked_again_tells_the_same(self):
+        for text in all_texts("ab", 4, 1):
+            for deed in (*LIST_OF_TEXT, *OTHERS_OF_TEXT):
+                self.assertEqual(deed(text), deed(text))
+            for many in range(1, len(text) + 1):
+                self.assertEqual(most_covering(text, many), most_covering(text, many))
+                self.assertEqual(length_for(text, many), length_for(text, many))
+            for word in all_texts("ab", 3, 1):
+                for deed in (lies_at, covered_beginnings, *OTHERS_OF_BOTH):
+                    self.assertEqual(deed(text, word), deed(text, word))
+                if rest_both(text, word):
+                    self.assertEqual(shown_with_rests(text, word), shown_with_rests(text, word))
 
     def test_no_list_is_shared_between_questions(self):
-        for deed in (borders, periods):
+        for deed in (borders, periods, shortest_covers, greatest_covers, how_many_covers):
             deed([]).append(5)
             self.assertEqual(deed([]), [])
-        lies_at([], ["a"]).append(5)
-        self.assertEqual(lies_at([], ["a"]), [])
-        lies_at(["b"], ["a"]).append(5)
-        self.assertEqual(lies_at(["b"], ["a"]), [])
+        for deed in (lies_at, covered_beginnings, bare_runs_told):
+            deed([], ["a"]).append(5)
+            self.assertEqual(deed([], ["a"]), [])
+        for deed in (lies_at, covered_beginnings):
+            deed(["b"], ["a"]).append(5)
+            self.assertEqual(deed(["b"], ["a"]), [])
         text, word = letters("aaaa"), letters("aa")
         places = covered(text, word)[1]
         places.clear()

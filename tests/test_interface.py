@@ -19,6 +19,28 @@ INTERFACE = {
         "fewest_layings": ["text", "word"],
         "how_many_layings": ["text", "word"],
     },
+    "overlaid.beginnings": {
+        "shortest_covers": ["text"],
+        "greatest_covers": ["text"],
+        "cover_tree": ["text"],
+        "how_many_covers": ["text"],
+        "most_covers": ["text"],
+        "covered_beginnings": ["text", "word"],
+    },
+    "overlaid.rests": {
+        "rest_behind": ["text", "word"],
+        "rest_ahead": ["text", "word"],
+        "rest_both": ["text", "word"],
+        "beginnings_with_rest": ["text"],
+        "ends_with_rest": ["text"],
+        "pieces_with_rests": ["text"],
+        "shown_with_rests": ["text", "word"],
+    },
+    "overlaid.bare": {
+        "how_covered": ["text", "word"],
+        "most_covering": ["text", "many"],
+        "length_for": ["text", "many"],
+    },
 }
 
 
