@@ -4,13 +4,10 @@ from overlaid.borders import lies_at
 from overlaid.borders import piece_places
 from overlaid.covers import first_bare
 from overlaid.errors import NoCover
-from overlaid.errors import TooMany
+from overlaid.signs import check_few
 from overlaid.signs import check_signs
 from overlaid.signs import check_some
 from overlaid.signs import check_word
-
-# Pieces with rests at both ends are looked for in texts of so many signs at most.
-MOST_SIGNS = 40
 
 
 def check_both(text, word):
@@ -77,10 +74,7 @@ def ends_with_rest(text):
 
 def pieces_with_rests(text):
     """(length, first place) of each unlike piece that covers the text with rests at both ends, sorted."""
-    check_signs(text)
-    check_some(text)
-    if len(text) > MOST_SIGNS:
-        raise TooMany(f"the text has more than {MOST_SIGNS} signs")
+    check_few(text)
     found = []
     for many in range(1, len(text) + 1):
         for piece, places in piece_places(text, many).items():

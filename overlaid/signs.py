@@ -4,6 +4,10 @@ from overlaid.errors import NoNumber
 from overlaid.errors import NoSign
 from overlaid.errors import NoText
 from overlaid.errors import NoWord
+from overlaid.errors import TooMany
+
+# All pieces are looked for in texts of so many signs at most.
+MOST_SIGNS = 40
 
 
 def is_sign(sign):
@@ -29,6 +33,22 @@ def check_some(text):
     """Refuse a text without signs."""
     if len(text) == 0:
         raise NoText("the text has no signs")
+
+
+def check_fits(text, word):
+    """Refuse what is no word, then a sign that is no letter, then a text shorter than the word."""
+    check_word(word)
+    check_signs(text)
+    if len(text) < len(word):
+        raise NoText("the text has fewer signs than the word")
+
+
+def check_few(text):
+    """Refuse a sign that is no letter, then a text without signs, then one with too many."""
+    check_signs(text)
+    check_some(text)
+    if len(text) > MOST_SIGNS:
+        raise TooMany(f"the text has more than {MOST_SIGNS} signs")
 
 
 def check_within(number, least, most):

@@ -190,6 +190,125 @@ def plain_length_for(text, many):
     return min(least for least in lengths if all(will_do[length] for length in lengths if length >= least))
 
 
+def plain_shifts(word):
+    found = []
+    for shift in range(1, len(word) + 1):
+        if all(word[at] == word[at - shift] for at in range(shift, len(word))):
+            found.append(shift)
+    return found
+
+
+def plain_is_chain(text, word, chain):
+    if not chain or chain[0] != 0 or chain[-1] != len(text) - len(word):
+        return False
+    return all(chain[at + 1] - chain[at] in plain_shifts(word) for at in range(len(chain) - 1))
+
+
+def plain_chains(text, word):
+    """All chains: every set of places is tried."""
+    found = []
+    for many in range(len(text) + 1):
+        for places in itertools.combinations(range(len(text)), many):
+            if plain_is_chain(text, word, list(places)):
+                found.append(list(places))
+    return found
+
+
+def plain_cost(text, word, chain):
+    """Lays the word at each place by itself; words that lie over one another must agree."""
+    laid = [set() for sign in text]
+    for place in chain:
+        for at, sign in enumerate(word):
+            laid[place + at].add(sign)
+    assert all(len(signs) == 1 for signs in laid), (text, word, chain)
+    return sum(signs != {sign} for sign, signs in zip(text, laid))
+
+
+def plain_fewest_wrong(text, word):
+    """(cost, chain) of the best chain of all, or None without any."""
+    ways = [(plain_cost(text, word, chain), len(chain), chain) for chain in plain_chains(text, word)]
+    if not ways:
+        return None
+    cost, many, chain = min(ways)
+    return (cost, chain)
+
+
+def plain_nearest_piece(text, many):
+    nearest = None
+    for place in range(len(text) - many + 1):
+        best = plain_fewest_wrong(text, text[place:place + many])
+        if best is not None and (nearest is None or best[0] < nearest[0]):
+            nearest = (best[0], place)
+    return nearest
+
+
+class Reader:
+    """Counts the texts that a word covers by reading them sign by sign.
+
+    A state is (how many signs of the word's beginning the text ends with, how many of its last signs are bare yet).
+    """
+
+    def __init__(self, word):
+        self.word = list(word)
+        self.signs = sorted(set(word))
+        self.known = {}
+        self.ways = {}
+
+    def read(self, state, sign):
+        """The state behind one more sign, or None where a sign stays bare for good."""
+        if (state, sign) not in self.known:
+            held, bare = state
+            text = self.word[:held] + [sign]
+            longest = min(len(text), len(self.word))
+            held = max(many for many in range(longest + 1) if text[len(text) - many:] == self.word[:many])
+            bare = 0 if held == len(self.word) else bare + 1
+            self.known[state, sign] = None if bare > held else (held, bare)
+        return self.known[state, sign]
+
+    def count(self, state, left):
+        """In how many ways so many more signs lead on to a covered text."""
+        if state is None:
+            return 0
+        if left == 0:
+            return 1 if state[1] == 0 else 0
+        if (state, left) not in self.ways:
+            self.ways[state, left] = sum(self.count(self.read(state, sign), left - 1) for sign in self.signs)
+        return self.ways[state, left]
+
+    def count_covered(self, length):
+        return self.count((0, 0), length) if length > 0 else 0
+
+    def number_of(self, text):
+        """How many covered texts of its length stand ahead of a covered one: at each sign those with a lesser one."""
+        state, number = (0, 0), 0
+        for at, sign in enumerate(text):
+            for other in self.signs:
+                if other < sign:
+                    number += self.count(self.read(state, other), len(text) - at - 1)
+            state = self.read(state, sign)
+        return number
+
+
+def plain_round_covered(text, word):
+    places, under = [], set()
+    for place in range(len(text)):
+        spots = [(place + at) % len(text) for at in range(len(word))]
+        if [text[spot] for spot in spots] == word:
+            places.append(place)
+            under.update(spots)
+    bare = [at for at in range(len(text)) if at not in under]
+    return ("bare", bare[0]) if bare else ("covers", places)
+
+
+def plain_round_covers(text):
+    first = {}
+    for length in range(1, len(text) + 1):
+        for place in range(len(text)):
+            piece = tuple(text[(place + at) % len(text)] for at in range(length))
+            first.setdefault(piece, (length, place))
+    return sorted(at for piece, at in first.items() if plain_round_covered(text, list(piece))[0] == "covers")
+
+
 def assert_refused(case, due, deed, *handed):
     """The deed refuses with just this class, and leaves what was handed in as it was."""
     before = copy.deepcopy(handed)

@@ -41,6 +41,26 @@ INTERFACE = {
         "most_covering": ["text", "many"],
         "length_for": ["text", "many"],
     },
+    "overlaid.wrong": {
+        "shifts": ["word"],
+        "chain_cost": ["text", "word", "chain"],
+        "fewest_wrong": ["text", "word"],
+        "nearest_piece": ["text", "many"],
+    },
+    "overlaid.counted": {
+        "count_covered": ["word", "length"],
+        "number_of": ["word", "text"],
+        "text_at": ["word", "length", "number"],
+        "length_of": ["word", "many"],
+    },
+    "overlaid.rounds": {
+        "round_covered": ["text", "word"],
+        "round_covers": ["text"],
+        "shortest_round": ["text"],
+    },
+    "overlaid.desk": {
+        "Desk": [],
+    },
 }
 
 
@@ -51,6 +71,11 @@ class Interface(unittest.TestCase):
                 deed = getattr(importlib.import_module(module), name)
                 self.assertEqual(list(inspect.signature(deed).parameters), arguments, name)
                 self.assertEqual(deed.__module__, module)
+
+    def test_the_desk(self):
+        made = importlib.import_module("overlaid.desk").Desk
+        self.assertTrue(inspect.isclass(made))
+        self.assertEqual(list(inspect.signature(made().say).parameters), ["row"])
 
 
 if __name__ == "__main__":

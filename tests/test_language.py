@@ -39,6 +39,18 @@ NODES = set(
     "IsNot In NotIn comprehension ExceptHandler arguments arg keyword alias".split()
 )
 TOP_NODES = (ast.Expr, ast.ImportFrom, ast.FunctionDef, ast.ClassDef, ast.Assign, ast.AnnAssign)
+KEYWORDS = {
+    "sorted": {"key", "reverse"},
+    "min": {"key", "default"},
+    "max": {"key", "default"},
+    "sum": {"start"},
+    "enumerate": {"start"},
+    "zip": {"strict"},
+}
+READERS = {"get", "items", "keys", "values", "index", "count", "copy"}
+FREE_VALUES = set("count index title find get join lower upper split strip copy add".split())
+FREE_METHODS = METHODS - set("encode decode hex fromhex to_bytes from_bytes".split())
+OF_PYTHON = {name for one in (str, int, list, dict, set, bytes, tuple) for name in dir(one)}
 WALKED = {"range", "zip", "enumerate", "reversed"}
 WALKERS = {"list", "tuple", "dict", "sorted", "sum", "any", "all", "enumerate", "zip", "bytes", "min", "max"}
 
@@ -211,6 +223,83 @@ def faults_of_attribute(node, own):
         yield f"L17 or L25 .{node.attr} in row {node.lineno}"
 
 
+def faults_of_raise(node):
+    """An error is made on the spot, by its class's own name, or goes on bare."""
+    made = node.exc
+    if made is not None and not (called(made) and called(made)[0].isupper()):
+        yield f"L19 the raise in row {node.lineno}"
+    if called(made):
+        if made.keywords or not all(isinstance(one, (ast.Constant, ast.JoinedStr)) for one in made.args):
+            yield f"L22 the error in row {node.lineno} is handed something else than texts by place"
+
+
+def faults_of_keywords(node):
+    allowed = KEYWORDS.get(called(node), set())
+    if isinstance(node.func, ast.Attribute) and node.func.attr in METHODS or called(node) in OWN_NAMES:
+        for one in node.keywords:
+            if one.arg not in allowed:
+                yield f"L22 the keyword {one.arg} in row {node.lineno}"
+
+
+def kept_at_top(tree):
+    """The names of the file's top that are given a list or a dict."""
+    for row in tree.body:
+        if isinstance(row, ast.Assign) and isinstance(row.value, (ast.List, ast.Dict)):
+            yield from (target.id for target in row.targets if isinstance(target, ast.Name))
+            inner = [*ast.iter_child_nodes(row.value)]
+            if any(isinstance(one, (ast.List, ast.Dict, ast.Set)) for one in inner):
+                yield "a list within a list"
+
+
+def read_at(node):
+    """The things that this step only reads."""
+    if isinstance(node, ast.Subscript) and isinstance(node.ctx, ast.Load):
+        yield node.value
+    elif isinstance(node, ast.Compare):
+        yield from node.comparators
+        yield node.left
+    elif isinstance(node, (ast.For, ast.comprehension)):
+        yield node.iter
+    elif called(node) in OWN_NAMES:
+        yield from node.args
+    elif isinstance(node, ast.Attribute) and node.attr in READERS:
+        yield node.value
+
+
+def faults_of_tops(tree):
+    kept = set(kept_at_top(tree))
+    if "a list within a list" in kept:
+        yield "L15 a list within a list of the file's top"
+    read = {id(one) for node in ast.walk(tree) for one in read_at(node)}
+    for node in ast.walk(tree):
+        if isinstance(node, ast.Name) and isinstance(node.ctx, ast.Load) and node.id in kept and id(node) not in read:
+            yield f"L15 {node.id} is more than read in row {node.lineno}"
+
+
+def faults_of_objects(tree):
+    """Methods and values: none is both, none is called like what Python's own values have, no class is handed on."""
+    classes = {row.name: row for row in tree.body if isinstance(row, ast.ClassDef)}
+    methods = {one.name for row in classes.values() for one in row.body if isinstance(one, ast.FunctionDef)}
+    values = {one.attr for one in ast.walk(tree) if isinstance(one, ast.Attribute) and isinstance(one.ctx, ast.Store)}
+    for name in methods & values:
+        yield f"L18 {name} is a method and a value"
+    for name in (values - FREE_VALUES | methods - FREE_METHODS - SPECIAL) & OF_PYTHON:
+        yield f"L26 the method or value {name}"
+    allowed = set()
+    for node in ast.walk(tree):
+        if isinstance(node, ast.Call):
+            allowed.add(id(node.func))
+            if called(node) == "isinstance":
+                allowed.update(id(one) for one in ast.walk(node.args[1]))
+        elif isinstance(node, ast.ClassDef):
+            allowed.update(id(one) for one in node.bases)
+        elif isinstance(node, ast.ExceptHandler) and node.type:
+            allowed.update(id(one) for one in ast.walk(node.type))
+    for node in ast.walk(tree):
+        if isinstance(node, ast.Name) and node.id in classes and id(node) not in allowed:
+            yield f"L18 the class {node.id} is handed on in row {node.lineno}"
+
+
 def faults_of_tree(tree, modules):
     for row in tree.body:
         if not isinstance(row, TOP_NODES):
@@ -221,6 +310,8 @@ def faults_of_tree(tree, modules):
     own = given | {node.name for node in ast.walk(tree) if isinstance(node, ast.FunctionDef)}
     yield from faults_of_names(tree)
     yield from faults_of_imports(tree, modules)
+    yield from faults_of_tops(tree)
+    yield from faults_of_objects(tree)
     for node in ast.walk(tree):
         if node.__class__.__name__ not in NODES:
             yield f"L6 or L7 {node.__class__.__name__} in row {getattr(node, 'lineno', '?')}"
@@ -230,6 +321,10 @@ def faults_of_tree(tree, modules):
             yield from faults_of_class(node)
         if isinstance(node, ast.Attribute):
             yield from faults_of_attribute(node, own)
+        if isinstance(node, ast.Raise):
+            yield from faults_of_raise(node)
+        if isinstance(node, ast.Call):
+            yield from faults_of_keywords(node)
         yield from faults_of_value(node)
         yield from faults_of_walks(node)
 
@@ -266,11 +361,29 @@ from overlaid.errors import NoSign
 WIDTH = 3
 
 
+def double(many):
+    """A deed that is called by its name in a row."""
+    return many * 2
+
+
+DEEDS = {"double": double}
+ROWS = [(1, 2), (3, 4)]
+
+
 class Box:
     """A box."""
 
     def __init__(self):
         self.rows = [1]
+
+    def tell(self, row):
+        """An answer."""
+        if row in DEEDS and len(ROWS) > 1:
+            told = DEEDS[row]
+            return told(self.rows[0])
+        if not isinstance(row, Box):
+            raise NoSign(f"no row {row}")
+        return list(ROWS)
 
 
 def deed(text, many=WIDTH):
@@ -334,6 +447,20 @@ BAD = (
     "class Box:\n    def __hash__(self):\n        return 1",
     "def deed(xs):\n    xs.__class__ = 3",
     "def deed():\n    pass\ndef deed():\n    pass",
+    "def deed(wrong):\n    raise wrong",
+    "def deed(wrong):\n    raise wrong('a')",
+    "def deed(wrong):\n    raise ValueError(wrong)",
+    "def deed(xs):\n    return min(xs, start=1)",
+    "def deed(xs):\n    return xs.split(sep=',')",
+    "ROWS = [1]\n\n\ndef deed():\n    ROWS.append(2)",
+    "ROWS = [1]\n\n\ndef deed():\n    return ROWS",
+    "ROWS = {1: 2}\n\n\ndef deed():\n    ROWS[1] = 3",
+    "ROWS = {1: 2}\n\n\ndef deed(at):\n    at(ROWS)",
+    "ROWS = [[1], [2]]",
+    "class Box:\n    def many(self):\n        self.many = 3",
+    "class Box:\n    def __init__(self):\n        self.pop = 3",
+    "class Box:\n    def decode(self):\n        pass",
+    "class Box:\n    pass\n\n\ndef deed():\n    return [Box]",
 )
 
 
