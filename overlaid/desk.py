@@ -102,6 +102,8 @@ class Desk:
 
     def say(self, row):
         """The answer to a row."""
+        if not isinstance(row, str):
+            raise NoForm("a row is a text")
         name, blank, rest = row.partition(" ")
         if name == "text" and (rest == "-" or are_letters(rest)):
             self.text = [] if rest == "-" else list(rest)

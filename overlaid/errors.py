@@ -34,7 +34,7 @@ class TooMany(CoverError):
 
 
 class NoForm(CoverError):
-    """A desk row without a form that the desk knows."""
+    """What is no desk row, of a kind or form that the desk knows."""
 
 
 class NoneYet(CoverError):

@@ -37,6 +37,15 @@ NO_FORMS = (
     "Texts 1", "signs 3", "signs", "bare 1", "covers 3 6", "lies at", "say", "x" * 300, " " * 300,
 )
 
+# What is no text is no row either, even where its parts would make one.
+NO_TEXTS = (
+    None, True, False, 0, 1, -1, 3, 10 ** 59, b"", b"covers", b"text ab", b"texts 1", bytearray(b"laid"),
+    [], [None], [[]], ["covers"], ["text ab"], ["text", "ab"], ["text", " ", "ab"], list("covers"), list("text ab"),
+    (), (None,), ("covers",), ("text", "ab"), ("text", " ", "ab"), ("texts", 1), tuple("laid"),
+    {}, {"text": "ab"}, {"covers": True}, {"word": ["a"]}, set(), {"covers"}, frozenset(), frozenset({"text ab"}),
+    range(0), range(3), str, Desk, len,
+)
+
 
 def told(*rows):
     """A desk that was told these rows."""
@@ -211,6 +220,28 @@ class Forms(unittest.TestCase):
         desk = told("text abab", "word ab")
         for row in NO_FORMS:
             self.hold_refused(desk, row, NoForm)
+
+    def test_what_is_no_text(self):
+        for rows in ((), ("text abab",), ("word ab",), ("text abab", "word ab"), ("text -", "word ab")):
+            for row in NO_TEXTS:
+                with self.subTest(rows=rows, row=row):
+                    self.hold_refused(told(*rows), row, NoForm)
+
+    def test_objects_are_no_rows(self):
+        for row in (object(), Desk(), told("text ab"), NoForm("covers")):
+            desk = told("text abab", "word ab")
+            with self.assertRaises(NoForm):
+                desk.say(row)
+            self.assertEqual(desk.say("lies"), "0 2")
+
+    def test_rows_of_signs_beyond_the_printed_ones(self):
+        desk = told("text abab", "word ab")
+        for sign in ("\n", "\r", "\t", "\x00", "\x7f", "\x85", "\xa0", "\xb2", "\xe4", "\u0430", "\u0661", "\uff41"):
+            for row in (
+                f"text{sign}ab", f"text ab{sign}", f"text {sign}", f"word{sign}ab", f"word {sign}b", f"texts{sign}1",
+                f"texts 1{sign}", f"texts {sign}", f"covers{sign}", f"{sign}laid", sign,
+            ):
+                self.hold_refused(desk, row, NoForm)
 
     def test_every_sign_behind_a_name(self):
         desk = told("text abab", "word ab")
